@@ -78,6 +78,29 @@ func TestTheGreatestPasses(t *testing.T) { // R1: 256 rules, as long as they may
 	}
 }
 
+// Passes whose units weigh as much as they may: all that is put back is done anew, to the end.
+func TestTheHeaviestPasses(t *testing.T) { // R1, W3
+	l := readAll(t, "a > | bbbbbbb ; b > | cccccccc ; then ; c > | deeeeee ; d > | ffffffff ; e > | ffffffff ; then ; f > ")
+	if weigh.Weight(l[0], 'a') != 64 || weigh.Weight(l[1], 'c') != 64 {
+		t.Fatalf("%d, %d", weigh.Weight(l[0], 'a'), weigh.Weight(l[1], 'c'))
+	}
+	c := begin(t, l)
+	for n := range 6 {
+		s := strings.Repeat("a", n) + "x"
+		each, e := c.Each(s)
+		want := texts(strings.Repeat("c", 56*n)+"x", strings.Repeat("f", 56*56*n)+"x", "x")
+		if !slices.Equal(each, want) || e != api.OK {
+			t.Errorf("%d: %.200q, %d", n, each, e)
+		}
+		one := start(t, l, c)
+		for i := range len(s) {
+			one.put(t, s[i:i+1])
+		}
+		one.close(t)
+	}
+	tooLong(t, c, "aaaaaa")
+}
+
 // Any bytes whatever.
 func TestAnyBytes(t *testing.T) { // R1
 	long(t)
