@@ -1,4 +1,4 @@
-// Package own copies what a caller may change later, for those who keep it or tell of it then.
+// Package own copies what a caller may change later, for those who keep it, tell of it then, or answer of it.
 package own
 
 import (
